@@ -2,24 +2,27 @@
 package cadence
 
 import (
+	"sync"
+
 	"cadence/api"
 	"cadence/bounds"
+	"cadence/machine"
 	"cadence/taskset"
 )
 
-// Kernel runs the jobs of some tasks.
-type Kernel struct{}
+// Kernel runs the jobs of some tasks. It may be asked from several sides.
+type Kernel struct {
+	mutex   sync.Mutex
+	machine *machine.Machine
+}
 
 // Check tells whether tasks may be (P3).
 func Check(tasks []api.Task) (api.Errno, int) { return taskset.Check(tasks) }
 
 // Analyze reckons bounds (P4).
 func Analyze(tasks []api.Task, priorities []int) ([]int, api.Errno, int) {
-	if e, place := taskset.Check(tasks); e != api.OK {
+	if e, place := checkBoth(tasks, priorities); e != api.OK {
 		return nil, e, place
-	}
-	if !taskset.ArePriorities(priorities, len(tasks)) {
-		return nil, api.ErrOrder, 0
 	}
 	system := bounds.Of(tasks)
 	answer := make([]int, len(tasks))
@@ -29,23 +32,58 @@ func Analyze(tasks []api.Task, priorities []int) ([]int, api.Errno, int) {
 	return answer, api.OK, 0
 }
 
+func checkBoth(tasks []api.Task, priorities []int) (api.Errno, int) {
+	if e, place := taskset.Check(tasks); e != api.OK {
+		return e, place
+	}
+	if !taskset.ArePriorities(priorities, len(tasks)) {
+		return api.ErrOrder, 0
+	}
+	return api.OK, 0
+}
+
 // Assign finds priorities (P5).
 func Assign(tasks []api.Task) ([]int, api.Errno, int) { return nil, api.OK, 0 }
 
 // New makes a kernel (P6).
-func New(tasks []api.Task, priorities []int) (*Kernel, api.Errno, int) { return nil, api.OK, 0 }
+func New(tasks []api.Task, priorities []int) (*Kernel, api.Errno, int) {
+	if e, place := checkBoth(tasks, priorities); e != api.OK {
+		return nil, e, place
+	}
+	return &Kernel{machine: machine.Of(tasks, priorities)}, api.OK, 0
+}
 
 // Arrive lets a job arrive (P7).
-func (k *Kernel) Arrive(task int, jitter int, demands ...int) api.Errno { return api.OK }
+func (k *Kernel) Arrive(task int, jitter int, demands ...int) api.Errno {
+	k.mutex.Lock()
+	defer k.mutex.Unlock()
+	return k.machine.Arrive(task, jitter, demands)
+}
 
 // Tick lets a tick go by (P8).
-func (k *Kernel) Tick() (int, bool) { return 0, false }
+func (k *Kernel) Tick() (int, bool) {
+	k.mutex.Lock()
+	defer k.mutex.Unlock()
+	return k.machine.Tick()
+}
 
 // Holds tells who holds a resource (P9).
-func (k *Kernel) Holds(resource int) (int, api.Errno) { return 0, api.OK }
+func (k *Kernel) Holds(resource int) (int, api.Errno) {
+	k.mutex.Lock()
+	defer k.mutex.Unlock()
+	return k.machine.Holds(resource)
+}
 
 // Jobs tells all jobs that are not forgotten (P10).
-func (k *Kernel) Jobs() []api.Job { return nil }
+func (k *Kernel) Jobs() []api.Job {
+	k.mutex.Lock()
+	defer k.mutex.Unlock()
+	return k.machine.Jobs()
+}
 
 // Look tells the time (P10).
-func (k *Kernel) Look() api.Look { return api.Look{} }
+func (k *Kernel) Look() api.Look {
+	k.mutex.Lock()
+	defer k.mutex.Unlock()
+	return k.machine.Look()
+}
