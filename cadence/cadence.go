@@ -7,6 +7,7 @@ import (
 	"cadence/api"
 	"cadence/bounds"
 	"cadence/machine"
+	"cadence/priority"
 	"cadence/taskset"
 )
 
@@ -43,7 +44,16 @@ func checkBoth(tasks []api.Task, priorities []int) (api.Errno, int) {
 }
 
 // Assign finds priorities (P5).
-func Assign(tasks []api.Task) ([]int, api.Errno, int) { return nil, api.OK, 0 }
+func Assign(tasks []api.Task) ([]int, api.Errno, int) {
+	if e, place := taskset.Check(tasks); e != api.OK {
+		return nil, e, place
+	}
+	priorities := priority.Find(bounds.Of(tasks))
+	if priorities == nil {
+		return nil, api.ErrNone, 0
+	}
+	return priorities, api.OK, 0
+}
 
 // New makes a kernel (P6).
 func New(tasks []api.Task, priorities []int) (*Kernel, api.Errno, int) {

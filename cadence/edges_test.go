@@ -30,6 +30,7 @@ func TestExtremeTimes(t *testing.T) {
 				}
 				wantCheck(t, tasks, e, 1)
 				wantNoBounds(t, tasks, []int{0, 1}, e, 1)
+				wantNoAssign(t, tasks, e, 1)
 			}
 		}
 	}
@@ -53,6 +54,7 @@ func TestExtremeSteps(t *testing.T) {
 		if n != api.Compute {
 			wantCheck(t, set(with(api.Step{Kind: n, N: 1}, compute(1))), api.ErrProgram, 0)
 			wantNoBounds(t, set(with(api.Step{Kind: n, N: n}, compute(1))), []int{0}, api.ErrProgram, 0)
+			wantNoAssign(t, set(with(api.Step{Kind: n, N: n}, compute(1))), api.ErrProgram, 0)
 		}
 	}
 }
@@ -73,8 +75,17 @@ func TestGreatestSets(t *testing.T) {
 	most := repeat(api.MaxSteps, compute(api.MaxCompute))
 	tasks := repeat(api.MaxTasks, task(api.MaxPeriod, api.MaxPeriod, 0, most...))
 	wantBounds(t, tasks, []int{7, 6, 5, 4, 3, 2, 1, 0}, 1600, 3200, 4800, 6400, 8000, 9600, 0, 0)
+	wantNoAssign(t, tasks, api.ErrNone, 0)
+	wantAssign(t, tasks[:6], 5, 4, 3, 2, 1, 0)
 	tasks = repeat(api.MaxTasks, task(api.MaxPeriod, api.MaxPeriod, api.MaxPeriod, most...))
 	wantBounds(t, tasks, []int{7, 6, 5, 4, 3, 2, 1, 0}, 0, 0, 0, 0, 0, 0, 0, 0)
+	wantNoAssign(t, tasks, api.ErrNone, 0)
+	// The two that come most often leave no time, and it takes the longest to
+	// see that: W grows by one tick at a time.
+	tasks = repeat(api.MaxTasks, task(api.MaxPeriod, api.MaxPeriod, 0, compute(1)))
+	tasks[0], tasks[1] = task(2, 2, 0, compute(1)), task(2, 2, 0, compute(1))
+	wantNoAssign(t, tasks, api.ErrNone, 0)
+	wantAssign(t, tasks[1:], 6, 5, 4, 3, 2, 1, 0)
 }
 
 // roomy makes a copy of the tasks in which each list has spare room, with

@@ -52,6 +52,22 @@ func wantNoBounds(t *testing.T, tasks []api.Task, priorities []int, e api.Errno,
 	}
 }
 
+func wantAssign(t *testing.T, tasks []api.Task, priorities ...int) {
+	t.Helper()
+	got, e, place := cadence.Assign(tasks)
+	if !slices.Equal(got, priorities) || e != api.OK || place != 0 {
+		t.Errorf("Assign(%+v) = %v, %d, %d, want %v", tasks, got, e, place, priorities)
+	}
+}
+
+func wantNoAssign(t *testing.T, tasks []api.Task, e api.Errno, place int) {
+	t.Helper()
+	got, gotE, gotPlace := cadence.Assign(tasks)
+	if got != nil || gotE != e || gotPlace != place {
+		t.Errorf("Assign(%+v) = %v, %d, %d, want nil, %d, %d", tasks, got, gotE, gotPlace, e, place)
+	}
+}
+
 func newKernel(t *testing.T, tasks []api.Task, priorities ...int) *cadence.Kernel {
 	t.Helper()
 	k, e, place := cadence.New(tasks, priorities)
